@@ -1,0 +1,1 @@
+"""Lessways: code over unknown fractions, decided for all of them."""
