@@ -5,7 +5,7 @@ import inspect
 import unittest
 from pathlib import Path
 
-from lessways import rows, shares, terms
+from lessways import bounds, mending, rows, shares, terms
 
 PACKAGE = Path(__file__).resolve().parent.parent / "lessways"
 
@@ -16,6 +16,14 @@ CLASSES = {
     "Term": ("terms", {"unknown": ("k",), "constant": ("number",), "over": ("number",), "at": ("point",)},
              ("add", "radd", "sub", "rsub", "mul", "rmul", "neg", "lt", "le", "gt", "ge", "eq")),
     "Row": ("rows", {"holds": ("point",)}, ("invert", "eq")),
+}
+# For each function of the interface: its file and its parameters.
+FUNCTIONS = {
+    "point_of": (mending, ("rows",)),
+    "weights_of": (mending, ("rows",)),
+    "least": (bounds, ("rows", "term")),
+    "greatest": (bounds, ("rows", "term")),
+    "endless": (bounds, ("rows", "term")),
 }
 STATIC = {("Term", "unknown"), ("Term", "constant")}
 
@@ -47,6 +55,12 @@ class InterfaceTest(unittest.TestCase):
                 if (name, method) not in STATIC:
                     told = told[1:]
                 self.assertEqual(tuple(told), parameters, (name, method))
+
+    def test_functions(self):
+        for name, (module, parameters) in FUNCTIONS.items():
+            told = getattr(module, name)
+            self.assertEqual(told.__module__, module.__name__)
+            self.assertEqual(tuple(inspect.signature(told).parameters), parameters, name)
 
     def test_static_methods(self):
         for name, method in STATIC:

@@ -164,6 +164,14 @@ class LanguageTest(unittest.TestCase):
             if called_name(node) in ORDER and not any(word.arg == "key" for word in node.keywords):
                 self.assertTrue(any(is_plain(argument) for argument in node.args), place)
 
+    def test_iterated_on_the_spot(self):
+        for place, node in nodes(ast.Starred):
+            if isinstance(node.value, ast.Call):
+                self.assertNotIn(called_name(node.value), ("range", "zip", "enumerate", "reversed"), place)
+        for place, node in nodes(ast.Assign):
+            if isinstance(node.value, ast.Call):
+                self.assertNotIn(called_name(node.value), ("range", "zip", "enumerate", "reversed"), place)
+
     def test_identity_is_asked_of_constants_only(self):
         for place, node in nodes(ast.Compare):
             for sign, right in zip(node.ops, node.comparators):

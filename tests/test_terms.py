@@ -1,4 +1,4 @@
-"""Points 9, 10 and 11, as far as rows need terms: making them, reckoning with them, their worth at a point."""
+"""Points 9, 10 and 11: making terms, reckoning with them, comparing them, their worth at a point."""
 
 import operator
 import unittest
@@ -39,7 +39,8 @@ class TermTest(unittest.TestCase):
             self.check(Term.unknown(k=k), right)
 
     def test_no_unknown(self):
-        for k in (-1, 3, 10 ** 12, True, False, None, "0", 1.0, [0], (1,), Share(1), Term.constant(1), object()):
+        for k in (-1, 3, 10 ** 12, True, False, None, "0", "", 1.0, [0], [], (1,), {}, {0: 1}, Share(0), Share(1),
+                  Share(2), Share(1, 2), Term.constant(1), X, object()):
             with self.assertRaises(NoUnknown) as caught:
                 Term.unknown(k)
             self.assertIs(caught.exception.k, k)
@@ -74,27 +75,34 @@ class TermTest(unittest.TestCase):
 
     def test_term_times_term(self):
         for one in terms():
-            for other in terms():
+            for other in [*terms(), one]:
+                old = (fields(one), fields(other))
                 with self.assertRaises(NotStraight) as caught:
                     one * other
                 self.assertIs(caught.exception.left, one)
                 self.assertIs(caught.exception.right, other)
-        kept = name = X + 1
-        with self.assertRaises(NotStraight):
-            name *= Y
-        self.assertIs(name, kept)
+                name = one
+                with self.assertRaises(NotStraight) as caught:
+                    name *= other
+                self.assertIs(caught.exception.left, one)
+                self.assertIs(caught.exception.right, other)
+                self.assertIs(name, one)
+                self.assertEqual((fields(one), fields(other)), old)
 
     def test_over(self):
         for term in terms():
+            old = fields(term)
             for number in NUMBERS:
                 by = fields(Term.constant(number))[0]
                 if by == 0:
                     with self.assertRaises(NoShare) as caught:
                         term.over(number)
+                    self.assertIs(type(caught.exception.top), int)
                     self.assertEqual(caught.exception.top, 0)
                 else:
                     self.check(term.over(number), [a / by for a in fields(term)])
                     self.check(term.over(number=number), [a / by for a in fields(term)])
+                self.check(term, old)
 
     def test_at(self):
         for term in terms():
