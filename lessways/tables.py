@@ -27,7 +27,7 @@ def turned(table, i, j):
     """The table in which the side of row i and the head of column j have changed places."""
     sign = 1 if table.cells[i][j] > 0 else -1
     turn = [sign * cell for cell in table.cells[i]]
-    cells = []
+    made = []
     for at, row in enumerate(table.cells):
         if at == i:
             moved = [-cell for cell in turn]
@@ -36,11 +36,11 @@ def turned(table, i, j):
             # Each cell is a determinant of the first table's cells, so the division leaves no rest.
             moved = [(turn[j] * cell - row[j] * other) // table.whole for cell, other in zip(row, turn)]
             moved[j] = sign * row[j]
-        cells.append(moved)
+        made.append(moved)
     sides = list(table.sides)
     heads = list(table.heads)
     sides[i], heads[j] = table.heads[j], table.sides[i]
-    return Table(cells, turn[j], sides, heads)
+    return Table(made, turn[j], sides, heads)
 
 
 def least_mark(marks, fits):
