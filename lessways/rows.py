@@ -28,7 +28,8 @@ class Row:
     """
 
     def __init__(self, term, strict):
-        self.term = term * scale(term)
+        by = scale(term)
+        self.term = term if by == 1 else term * by
         self.strict = strict
 
     def holds(self, point):

@@ -61,9 +61,9 @@ class Share:
     def __init__(self, top, bottom=1):
         if bottom == 0:
             raise NoShare(top)
-        common = divisor(top, bottom)
-        if bottom < 0:
-            common = -common
+        common = 1
+        if bottom != 1:
+            common = divisor(top, bottom) if bottom > 0 else -divisor(top, bottom)
         self.top = top // common
         self.bottom = bottom // common
 
