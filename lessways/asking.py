@@ -1,6 +1,6 @@
 """Asking: askers put codes through their runs."""
 
-from lessways.cells import cell_of, held, point_in
+from lessways.cells import cell_of, held, point_in, touched, walls_of
 from lessways.checks import check_count, check_limit, check_rows, check_unknown
 from lessways.errors import HasGiven, NotCounted, Nothing, NotNumber, NotRow, NotTruth
 from lessways.lands import Land
@@ -74,6 +74,21 @@ def unlike_cell(cell, one, other):
     if isinstance(one, bool) == isinstance(other, bool) and one == other:
         return None
     return cell
+
+
+def weights_in(cell, walls, rows, last):
+    """The weights of rows that hold in a cell, and of a last one that holds nowhere with them.
+
+    walls are the places of those rows that are walls of the cell. Only such as are 0 at some place of it are given
+    weights: these are few, even where the rows are many.
+    """
+    bits = touched(cell)
+    places = [at for k, at in enumerate(walls) if bits >> (k + 1) & 1 == 1]
+    told = weights_of([*[rows[at] for at in places], last])
+    weights = [0 for row in rows]
+    for at, weight in zip(places, told):
+        weights[at] = weight
+    return [*weights, told[-1]]
 
 
 def told_row(row, answer):
@@ -178,14 +193,18 @@ class Asker:
     def needless(self, code):
         """The tuples (path, row, answer, weights) of all forced asks of rows."""
         asking = Asking(self, [code])
+        walls = walls_of(self.unknowns, self.given)
+        count = len(self.given)
         found = []
         while asking.goes_on():
             run = asking.run
             new = [ask for ask in run.forced if ask[0] >= len(run.repeats)]
             for many, row, answer in new:
                 path = tuple(run.path[:many])
-                rows = [*self.given, *[told_row(*pair) for pair in path], told_row(row, not answer)]
-                found.append((path, row, answer, weights_of(rows)))
+                rows = [*self.given, *[told_row(*pair) for pair in path]]
+                places = [*walls, *list(range(count, count + many))]
+                weights = weights_in(run.nodes[many].cell, places, rows, told_row(row, not answer))
+                found.append((path, row, answer, weights))
         return found
 
     def read(self, code):

@@ -35,20 +35,6 @@ def steps(cell, tree):
     return [(part, side(tree, answer)) for answer, part in forks(cell, tree[1])]
 
 
-def paired(cell, left, right):
-    """For all ways in which two trees come out together, the cell and both values.
-
-    Both trees are gone down side by side: where they ask about the same, the second ask is forced at once.
-    """
-    if left[0] == "leaf" and right[0] == "leaf":
-        return [(cell, left[1], right[1])]
-    found = []
-    for part, one in steps(cell, left):
-        for inner, other in steps(part, right):
-            found.extend(paired(inner, one, other))
-    return found
-
-
 def least_step(terms, point, k, way):
     """A share above 0 so small that no term becomes 0 where unknown k is moved by it, or less, from a point."""
     step = Share(2)
@@ -83,6 +69,23 @@ def fallen_point(cell, here, there, k, way):
     return None if part is None else point_in(part)
 
 
+def point_beside(cell, here, there, k, way, falls):
+    """A point of a cell that is told of the leaves of two trees, the second one beside the first; None if none is.
+
+    Both trees are gone down side by side: where they ask about the same, the second ask is forced at once.
+    """
+    if here[0] == "leaf" and there[0] == "leaf":
+        if falls:
+            return fallen_point(cell, here[1], there[1], k, way)
+        return unlike_point(cell, here[1], there[1], k)
+    for part, one in steps(cell, here):
+        for inner, other in steps(part, there):
+            point = point_beside(inner, one, other, k, way, falls)
+            if point is not None:
+                return point
+    return None
+
+
 def pair_beside(tree, other, point, k, way):
     """A point and another one beside it at which a tree tells the same as just beside."""
     gap = Term.constant(walk(tree, point).at(point)) - walk(other, point)
@@ -94,10 +97,9 @@ def leaning(unknowns, tree, k):
     """A pair of points that differ in unknown k alone, and unlike numbers there; None if there is none."""
     for way in (1, -1):
         other = beside(tree, k, way)
-        for cell, here, there in paired(whole_cell(unknowns), tree, other):
-            point = unlike_point(cell, here, there, k)
-            if point is not None:
-                return pair_beside(tree, other, point, k, way)
+        point = point_beside(whole_cell(unknowns), tree, other, k, way, False)
+        if point is not None:
+            return pair_beside(tree, other, point, k, way)
     return None
 
 
@@ -105,9 +107,8 @@ def falling(unknowns, tree, k):
     """A pair of points, of which the second one has more of unknown k alone, and the lesser number; or None."""
     for way in (1, -1):
         other = beside(tree, k, way)
-        for cell, here, there in paired(whole_cell(unknowns), tree, other):
-            point = fallen_point(cell, here, there, k, way)
-            if point is not None:
-                pair = pair_beside(tree, other, point, k, way)
-                return pair if way > 0 else pair[::-1]
+        point = point_beside(whole_cell(unknowns), tree, other, k, way, True)
+        if point is not None:
+            pair = pair_beside(tree, other, point, k, way)
+            return pair if way > 0 else pair[::-1]
     return None

@@ -131,10 +131,11 @@ def halves(cell, strict, parts):
 def forks(cell, row):
     """The pairs (answer, cell) of an ask: one if the row is forced in the cell, else that of False first."""
     numbers = integers_of(row.term)
-    slopes = worths(numbers, cell.lines)
     told = worths(numbers, cell.places)
-    if changes(slopes):
-        return halves(cell, row.strict, cut_by_line(cell, slopes, told))
+    if cell.lines:
+        slopes = worths(numbers, cell.lines)
+        if changes(slopes):
+            return halves(cell, row.strict, cut_by_line(cell, slopes, told))
     answer = forced_answer(cell, told, row.strict)
     if answer is not None:
         return [(answer, cell)]
@@ -157,6 +158,26 @@ def cell_of(unknowns, rows):
         if cell is None:
             return None
     return cell
+
+
+def walls_of(unknowns, rows):
+    """The places in a list of those rows that become walls of their cell, in their order; the others are forced."""
+    cell = whole_cell(unknowns)
+    found = []
+    for at, row in enumerate(rows):
+        part = held(cell, row)
+        if part.bit > cell.bit:
+            found.append(at)
+        cell = part
+    return found
+
+
+def touched(cell):
+    """The bits of the walls that are 0 at some place. Without the others the cell would have the same points."""
+    bits = 0
+    for mask in cell.masks:
+        bits = bits | mask
+    return bits
 
 
 def point_in(cell):
