@@ -379,6 +379,18 @@ class RoomTest(Checked):
         self.assertEqual(asker.room(code=code, point=[15, 0], k=0), ((Share(10), False), None))
         self.assertEqual(asker.calls, 4)
 
+    def test_worths_that_are_not_given(self):
+        def code(ask, x):
+            return ask(x[0] > x[1] + 2 * x[2])
+        asker = Asker(3)
+        self.assertEqual(asker.room(code, (), 0), (None, (Share(0), True)))
+        self.assertEqual(asker.room(code, (), 1), ((Share(0), True), None))
+        self.assertEqual(asker.room(code, [4], 0), ((Share(0), False), None))
+        self.assertEqual(asker.room(code, [4], 1), (None, (Share(4), False)))
+        self.assertEqual(asker.room(code, [4], 2), (None, (Share(2), False)))
+        self.assertEqual(asker.room(code, [4, 1], 2), (None, (Share(3, 2), False)))
+        self.assertEqual(asker.room(code, [4, 1, 7, 9, 9], 0), (None, (Share(15), True)))
+
     def test_no_unknown_comes_first(self):
         asker = Asker(2, given=[X > 0])
         for k in (2, 3, -1, True, None, Share(1), "0"):

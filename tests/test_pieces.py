@@ -182,6 +182,32 @@ class OperatorsTest(Checked):
             self.check_numbers(p * number, points, lambda point: by * value_at(plan, point))
             self.check_numbers(number * p, points, lambda point: by * value_at(plan, point))
 
+    def test_multiples_of_sums(self):
+        plan = any_plan(3, 2, 3, form_leaf, 3)
+        p = read(plan, 2) + X - 3
+        points = told_points(plan, 2)
+        for number in (0, -2, HALF):
+            by = flat(Share(1) * number)
+            self.check_numbers(p * number, points, lambda point: by * (value_at(plan, point) + point[0] - 3))
+            self.check_numbers(number * (p - p), points, lambda point: 0)
+            self.check_numbers(Pieces.of_term(2, 2 * X + 5) * number, points, lambda point: by * (2 * point[0] + 5))
+
+    def test_sums_of_many(self):
+        for unknowns, one, two, points in pairs(range(10)):
+            p, q = read(one, unknowns), read(two, unknowns)
+            r = Pieces.of_term(unknowns, 2 * X - 1)
+            total = p - 2 * q + (p & q) - 3 * (p | r) + abs(q) * HALF - (q & r) + abs(p - r) + r
+
+            def reckoned(point):
+                a, b, c = value_at(one, point), value_at(two, point), 2 * point[0] - 1
+                return a - 2 * b + min(a, b) - 3 * max(a, c) + flat(HALF) * abs(b) - min(b, c) + abs(a - c) + c
+
+            self.check_numbers(total, points, reckoned)
+            self.check_numbers(total - total, points, lambda point: 0)
+            self.check_numbers(total + p, points, lambda point: reckoned(point) + value_at(one, point))
+            self.assertIs(total - p + 2 * q == total + p + 2 * (q - p), True)
+            self.assertIs(total - p + 2 * q == total + p + 2 * q, p == Pieces.of_term(unknowns, 0))
+
     def test_against_the_code_that_reckons_the_same(self):
         for unknowns, one, two, _ in pairs(range(24)):
             p, q = read(one, unknowns), read(two, unknowns)
