@@ -14,10 +14,18 @@ from tests.helpers import fields
 WORDINGS = 5
 
 
+def fit(value, x):
+    """A value as it is reckoned with at x: a fraction of a plan is a share, but where x are fractions, too."""
+    if isinstance(value, Fraction) and not isinstance(x[0], Fraction):
+        return Share(value.numerator, value.denominator)
+    return value
+
+
 def linear(form, x):
     """A form at x: a term of terms, a number of numbers."""
-    total = form[1] * x[0] + form[0]
-    for times, one in zip(form[2:], x[1:]):
+    number, *multiples = [fit(part, x) for part in form]
+    total = multiples[0] * x[0] + number
+    for times, one in zip(multiples[1:], x[1:]):
         total = total + times * one
     return total
 
@@ -46,7 +54,7 @@ def code_of(plan):
         at = plan
         while at[0] == "ask":
             at = at[5] if ask(compared(at[1], at[2], at[3], x)) else at[4]
-        return linear(at[1], x) if is_form(at[1]) else at[1]
+        return linear(at[1], x) if is_form(at[1]) else fit(at[1], x)
     return code
 
 
@@ -150,10 +158,16 @@ def truth_leaf(chance, unknowns):
 
 
 def form_leaf(chance, unknowns):
-    """A form, or a number alone."""
+    """A form, or a number alone, of integers or of fractions."""
+    bottom = chance.choice((1, 1, 2, 3, 6))
     if chance.random() < 0.3:
-        return chance.randint(-3, 3)
-    return any_form(chance, unknowns, 2)
+        return over(chance.randint(-3, 3), bottom)
+    return tuple(over(number, bottom) for number in any_form(chance, unknowns, 2))
+
+
+def over(number, bottom):
+    """An integer divided by another one; an integer if it is divided by 1."""
+    return number if bottom == 1 else Fraction(number, bottom)
 
 
 def flat(value):

@@ -23,9 +23,9 @@ def bounds(rows, term):
     """(least, greatest) as the package tells them, with fractions; None if the rows hold nowhere together."""
     number, *times = fields(term)
     # The term's worth is one more unknown, and the last one that is left.
-    told = [([*fields(row.term), 0], row.strict) for row in rows]
-    told.append(([number, *times, -1], False))
-    told.append(([-number, *[-share for share in times], 1], False))
+    told = [([*fields(row.term), Fraction(0)], row.strict) for row in rows]
+    told.append(([number, *times, Fraction(-1)], False))
+    told.append(([-number, *[-share for share in times], Fraction(1)], False))
     for k in (1, 2, 3):
         told = without(told, k)
     lows, highs = [], []
@@ -33,9 +33,9 @@ def bounds(rows, term):
         if numbers[4] == 0 and (numbers[0] < 0 or strict and numbers[0] == 0):
             return None
         if numbers[4] > 0:
-            lows.append((-numbers[0] / Fraction(numbers[4]), strict))
+            lows.append((-numbers[0] / numbers[4], strict))
         if numbers[4] < 0:
-            highs.append((-numbers[0] / Fraction(numbers[4]), strict))
+            highs.append((-numbers[0] / numbers[4], strict))
     low = max(lows, default=None)
     high = min(highs, default=None, key=lambda pair: (pair[0], not pair[1]))
     if low and high and (low[0] > high[0] or low[0] == high[0] and (low[1] or high[1])):

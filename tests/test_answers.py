@@ -8,7 +8,7 @@ from lessways.errors import NotCounted, NotNumber, NotRow, NotTruth, NoUnknown
 from lessways.shares import Share
 from lessways.terms import Term
 from tests.codes import (any_plan, called_plain, code_of, ends_of, flat, form_leaf, form_of, forms_of, holds, is_form,
-                         runs_of, same_row, told_points, truth_leaf, value_at)
+                         linear, runs_of, same_row, told_points, truth_leaf, value_at)
 from tests.faces import faces_of, worth
 from tests.reckoned import bounds
 
@@ -235,15 +235,12 @@ class SpanTest(Checked):
         for run in runs:
             rows = [self.row_of(ask) for ask in run.path]
             value = run.value if is_form(run.value) else (run.value, 0, 0, 0)
-            found.append(bounds([*given, *rows], self.term_of(value)))
+            found.append(bounds([*given, *rows], linear(value, (X, Y, Z))))
         return self.joined(found)
-
-    def term_of(self, form):
-        return form[0] + form[1] * X + form[2] * Y + form[3] * Z
 
     def row_of(self, ask):
         form, strict, answer, _ = ask
-        term = self.term_of(form)
+        term = linear(form, (X, Y, Z))
         row = term > 0 if strict else term >= 0
         return row if answer else ~row
 

@@ -52,7 +52,8 @@ class MakingTest(unittest.TestCase):
         self.assertEqual(self.refused(NotRow, 1, given=[None, Y > 0]).thing, None)
 
     def test_nothing_counts(self):
-        for rows in ([X > 0, X < 0], (X > X,), [X >= 1, Y >= 1, X + Y < 2], [Term.constant(-1) > 0]):
+        for rows in ([X > 0, X < 0], (X > X,), [X >= 1, Y >= 1, X + Y < 2], [Term.constant(-1) > 0],
+                     [X > 0, X < 0, Y > 0], (X < X, Y > 0, X > 3)):
             told = self.refused(Nothing, 2, given=rows).rows
             self.assertIs(type(told), list)
             self.assertIsNot(told, rows)

@@ -9,7 +9,7 @@ from lessways.lands import Land
 from lessways.pieces import Pieces
 from lessways.shares import Share
 from lessways.terms import Term
-from tests.codes import (any_plan, code_of, ends_of, flat, form_leaf, forms_of, is_form, runs_of, told_points,
+from tests.codes import (any_plan, code_of, ends_of, flat, form_leaf, forms_of, is_form, linear, runs_of, told_points,
                          truth_leaf, value_at)
 from tests.faces import faces_of
 from tests.reckoned import bounds
@@ -417,11 +417,10 @@ class SpanTest(Checked):
         for run in runs_of(plan, told_points(plan, unknowns)):
             rows = []
             for form, strict, answer, _ in run.path:
-                term = form[0] + form[1] * X + form[2] * Y + form[3] * Z
+                term = linear(form, (X, Y, Z))
                 row = term > 0 if strict else term >= 0
                 rows.append(row if answer else ~row)
-            value = whole(run.value)
-            found.append(bounds(rows, value[0] + value[1] * X + value[2] * Y + value[3] * Z))
+            found.append(bounds(rows, linear(whole(run.value), (X, Y, Z))))
         lows, highs = [low for low, _ in found], [high for _, high in found]
         return (None if None in lows else min(lows, key=lambda end: (end[0], not end[1])),
                 None if None in highs else max(highs))
@@ -466,6 +465,22 @@ class SpanTest(Checked):
         self.assertEqual(Pieces.of_term(1, X).span(), (None, None))
         self.assertIsNone((p & 5).endless())
         self.assertIsNotNone(p.endless())
+
+    def test_endless_with_multiples_of_unlike_bottoms(self):
+        for up, down in ((Share(1, 3), Share(1, 6)), (Share(2, 3), Share(3, 5)), (Share(1, 4), Share(5, 6))):
+            def code(ask, x):
+                gap = x[0] - x[1]
+                if ask(gap >= 0) and ask(gap <= 1) and ask(x[0] >= 0):
+                    return up * x[0] - down * x[1]
+                return 0
+            p = Asker(2).read(code)
+            grows = up > down
+            self.assertIs(p.endless() is None, not grows)
+            self.assertIs((-p).endless() is None, grows)
+            point, way = [self.check_point(part) for part in (p if grows else -p).endless()]
+            slope = flat(up) * way[0] - flat(down) * way[1]
+            self.assertIs(slope > 0 if grows else slope < 0, True)
+            self.assertTrue(way[0] == way[1] > 0 and 0 <= point[0] - point[1] <= 1 and point[0] >= 0)
 
 
 class PutTest(Checked):
